@@ -1,0 +1,1 @@
+"""Talepost: texts that travel along rows of stations."""

@@ -1,0 +1,235 @@
+"""Nets: for each place a list of steps (label, next), and whether the place is good; place 0 is the start.
+
+Operators use these functions, so they change only lists and dicts that they made themselves.
+"""
+
+
+def leading(net, goods):
+    """For each place, whether its steps lead to a good place."""
+    before = backward(net)
+    found = list(goods)
+    queue = [place for place, good in enumerate(goods) if good]
+    while queue:
+        place = queue.pop()
+        for earlier in before[place]:
+            if not found[earlier]:
+                found[earlier] = True
+                queue.append(earlier)
+    return found
+
+
+def backward(net):
+    """For each place, the places that have a step to it."""
+    before = [[] for _ in net]
+    for place, row in enumerate(net):
+        for _, to in row:
+            before[to].append(place)
+    return before
+
+
+def trimmed(net, goods):
+    """The net without the places that are on no walk, in the order in which a search meets the others."""
+    useful = leading(net, goods)
+    if not useful[0]:
+        return [[]], [False]
+    order = [0]
+    number = {0: 0}
+    at = 0
+    while at < len(order):
+        place = order[at]
+        for _, to in net[place]:
+            if useful[to] and to not in number:
+                number[to] = len(order)
+                order.append(to)
+        at = at + 1
+    rows = [[(label, number[to]) for label, to in net[kept] if useful[to]] for kept in order]
+    return rows, [goods[kept] for kept in order]
+
+
+def merged(net, goods):
+    """The trimmed net with one place for all places that have the same continuations."""
+    rows, ends = trimmed(net, goods)
+    block = alike(rows, ends)
+    first = {}
+    for place, number in enumerate(block):
+        if number not in first:
+            first[number] = place
+    order = {number: at for at, number in enumerate(list(first))}
+    shorter = [without_twins([(label, order[block[to]]) for label, to in rows[first[number]]]) for number in first]
+    return trimmed(shorter, [ends[first[number]] for number in first])
+
+
+def without_twins(row):
+    """The different items of a list, in the order in which they first stand there."""
+    kept = {}
+    for step in row:
+        kept[step] = True
+    return list(kept)
+
+
+def alike(net, goods):
+    """A number for each place, the same one for places with the same continuations, label by label."""
+    before = backward(net)
+    block = [0 if good else 1 for good in goods]
+    members = [{}, {}]
+    for place, number in enumerate(block):
+        members[number][place] = True
+    touched = list(range(len(net)))
+    while touched:
+        moved = []
+        parts = parts_of(net, block, touched)
+        for number in parts:
+            # A largest part keeps the number: so no place moves more often than its block can be halved.
+            leaving = leaving_parts(parts[number], members[number])
+            for part in leaving:
+                members.append({})
+                for place in part:
+                    del members[number][place]
+                    members[-1][place] = True
+                    block[place] = len(members) - 1
+                moved.extend(part)
+        touched = sorted(set([earlier for place in moved for earlier in before[place]]))
+    return block
+
+
+def parts_of(net, block, touched):
+    """For each block, the lists of its touched places that have the same steps to the same blocks."""
+    groups = {}
+    for place in touched:
+        steps = sorted(set([(label, block[to]) for label, to in net[place]]))
+        mark = (block[place], tuple(steps))
+        if mark not in groups:
+            groups[mark] = []
+        groups[mark].append(place)
+    parts = {}
+    for mark in groups:
+        if mark[0] not in parts:
+            parts[mark[0]] = []
+        parts[mark[0]].append(groups[mark])
+    return parts
+
+
+def leaving_parts(parts, whole):
+    """The parts of a block but a largest one; its places that are in none of the parts are one more part."""
+    most = max([len(part) for part in parts])
+    rest = len(whole) - sum([len(part) for part in parts])
+    if rest >= most:
+        return parts
+    staying = [len(part) for part in parts].index(most)
+    leaving = [part for at, part in enumerate(parts) if at != staying]
+    if rest == 0:
+        return leaving
+    listed = {place: True for part in parts for place in part}
+    return leaving + [[place for place in whole if place not in listed]]
+
+
+def closed(net, places):
+    """The places to which steps with the empty label lead, the given ones included, in ascending order."""
+    seen = {}
+    for place in places:
+        seen[place] = True
+    queue = list(seen)
+    while queue:
+        here = queue.pop()
+        for label, to in net[here]:
+            if label == "" and to not in seen:
+                seen[to] = True
+                queue.append(to)
+    return sorted(list(seen))
+
+
+def onward(net, places):
+    """For each sign, the places to which its steps lead from the given places."""
+    steps = {}
+    for place in places:
+        for label, to in net[place]:
+            if label != "":
+                if label not in steps:
+                    steps[label] = {}
+                steps[label][to] = True
+    return steps
+
+
+def settled(signs, net, goods):
+    """A table of a stock (rows and goods) that has the texts of the net: a search over sets of places."""
+    rows_of_net, ends = merged(net, goods)
+    sets = [tuple(closed(rows_of_net, [0]))]
+    number = {sets[0]: 0}
+    rows = []
+    while len(rows) < len(sets):
+        steps = onward(rows_of_net, sets[len(rows)])
+        row = []
+        for sign in signs:
+            if sign in steps:
+                reached = tuple(closed(rows_of_net, list(steps[sign])))
+                if reached not in number:
+                    number[reached] = len(sets)
+                    sets.append(reached)
+                row.append(number[reached])
+            else:
+                row.append(-1)
+        rows.append(row)
+    return rows, [any([ends[place] for place in places]) for places in sets]
+
+
+def earliest(net, goods, most):
+    """The first texts of the net in order, at most so many; for None all texts, if they are finitely many.
+
+    Of all the texts that lead to one place, only the first ones can begin one of the first texts of the net.
+    """
+    rows, ends = trimmed(net, goods)
+    visits = [0 for _ in rows]
+    found = []
+    layer = [("", [0])]
+    while layer:
+        longer = []
+        for text, starts in layer:
+            places = [place for place in closed(rows, starts) if most is None or visits[place] < most]
+            for place in places:
+                visits[place] = visits[place] + 1
+            if any([ends[place] for place in places]):
+                found.append(text)
+                if len(found) == most:
+                    return found
+            steps = onward(rows, places)
+            for sign in sorted(list(steps)):
+                longer.append((text + sign, list(steps[sign])))
+        layer = longer
+    return found
+
+
+def knots(net):
+    """A number for each place, the same one for places that lead to each other."""
+    before = backward(net)
+    knot = [-1 for _ in net]
+    for place in finished(net)[::-1]:
+        if knot[place] < 0:
+            knot[place] = place
+            queue = [place]
+            while queue:
+                here = queue.pop()
+                for earlier in before[here]:
+                    if knot[earlier] < 0:
+                        knot[earlier] = place
+                        queue.append(earlier)
+    return knot
+
+
+def finished(net):
+    """All places in the order in which a search in depth leaves them for good."""
+    seen = [False for _ in net]
+    order = []
+    for start in range(len(net)):
+        stack = [] if seen[start] else [(start, 0)]
+        seen[start] = True
+        while stack:
+            place, at = stack.pop()
+            if at == len(net[place]):
+                order.append(place)
+            else:
+                stack.append((place, at + 1))
+                to = net[place][at][1]
+                if not seen[to]:
+                    seen[to] = True
+                    stack.append((to, 0))
+    return order

@@ -1,0 +1,82 @@
+"""What is surely known from what was heard (points 22 to 26)."""
+
+from talepost.errors import Uncertain
+from talepost.leads import parting_text
+from talepost.letters import check_alphabets, shortlex
+from talepost.machines import Machine, first_heard, first_outs, listener
+from talepost.stocks import Stock, differing
+
+
+def link(first, second, stock):
+    """The machine that says what `second` says of a text of the stock, for what `first` says of it."""
+    check_alphabets([first, second, stock])
+    return ~first.on(stock) * second
+
+
+def is_certain(machine):
+    """Whether the machine says at most one text for each text."""
+    return parting_text(machine, machine) is None
+
+
+def several(machine):
+    """The first text for which more than one text is said, and the first two of these; or None."""
+    text = parting_text(machine, machine)
+    if text is None:
+        return None
+    one, other = first_outs(machine, text, 2)
+    return (text, one, other)
+
+
+def doubt(first, second, stock):
+    """What leaves a doubt about what `second` says, for who hears what `first` says of the stock; or None."""
+    found = several(link(first, second, stock))
+    if found is None:
+        return None
+    out, one, other = found
+    heard = listener(only(first.on(stock), out))
+    return (out, one, other, first_heard(heard * only(second, one)), first_heard(heard * only(second, other)))
+
+
+def only(machine, out):
+    """The machine that says the same, but no text other than `out`."""
+    return machine.into(Stock.listed(machine.alphabet, [out]))
+
+
+def melted(machine, stock):
+    """The first text that is said for two texts of the stock, and the first two of these; or None."""
+    check_alphabets([machine, stock])
+    return several(~machine.on(stock))
+
+
+def same(first, second):
+    """The first text for which two certain machines do not say the same, or None."""
+    check_alphabets([first, second])
+    for machine in [first, second]:
+        text = parting_text(machine, machine)
+        if text is not None:
+            raise Uncertain(text)
+    return sooner(parting_text(first, second), differing(first.domain(), second.domain()))
+
+
+def sooner(one, other):
+    """The first of two texts, each of which may be None."""
+    found = shortlex([text for text in [one, other] if text is not None])
+    return found[0] if found else None
+
+
+def returned(machine, stock):
+    """The first text of the stock for which something else than this text alone is said, or None."""
+    check_alphabets([machine, stock])
+    spoken = machine.on(stock)
+    silent = (stock - spoken.domain()).first()
+    return sooner(silent, parting_text(spoken, Machine.identity(machine.alphabet)))
+
+
+def tells(machine, stock, asked):
+    """The first text that leaves open whether the text of the stock belongs to `asked`, with two such; or None."""
+    check_alphabets([machine, stock, asked])
+    inside, outside = stock & asked, stock - asked
+    out = (machine.image(inside) & machine.image(outside)).first()
+    if out is None:
+        return None
+    return (out, first_outs(~machine.on(inside), out, 1)[0], first_outs(~machine.on(outside), out, 1)[0])
