@@ -1,0 +1,81 @@
+"""The examples of the interface, and that its names stand where it lists them."""
+
+import importlib
+import inspect
+import unittest
+
+from talepost.books import Book
+from talepost.growth import growth
+from talepost.leads import lead_rows, parting_text
+from talepost.letters import Alphabet
+from talepost.machines import Machine
+from talepost.standings import reader
+from talepost.stocks import Stock
+from talepost.sure import doubt
+from talepost.tables import Table
+
+LISTED = {
+    "letters": {"Alphabet": "letters, vowels=''", "shortlex": "texts", "kind_after": "text"},
+    "stocks": {"Stock": "alphabet, rows, goods", "differing": "first, second"},
+    "machines": {"Machine": "alphabet, arcs, goods"},
+    "leads": {"parting_text": "first, second", "lead_rows": "first, second", "leads_hold": "first, second, rows"},
+    "sure": {"link": "first, second, stock", "is_certain": "machine", "several": "machine",
+             "doubt": "first, second, stock", "melted": "machine, stock", "same": "first, second",
+             "returned": "machine, stock", "tells": "machine, stock, asked"},
+    "growth": {"growth": "machine", "pump": "machine"},
+    "tables": {"Table": "alphabet, pairs"},
+    "books": {"Book": "alphabet, *entries"},
+    "scanning": {name: "book, text, *, after='start'" for name in ["write_steps", "read_steps", "shorten", "expand"]},
+    "standings": {"writer": "book, *, using=None", "reader": "book, *, taking=None"}}
+METHODS = {
+    Alphabet: {"signs_of": "name", "is_text": "text", "check": "text"},
+    Stock: {"every": "alphabet", "none": "alphabet", "listed": "alphabet, texts", "shaped": "alphabet, shape",
+            "first": "", "texts": "most", "how_many": "most", "extent": ""},
+    Machine: {"identity": "alphabet", "of_pairs": "alphabet, pairs", "spelled": "alphabet, rows, ends", "on": "stock",
+              "into": "stock", "image": "stock", "source": "stock", "domain": "", "outs": "text", "says": "text, out"},
+    Table: {"identity": "alphabet", "full": "alphabet", "empty": "alphabet", "read": "alphabet, written", "pairs": "",
+            "within": "other", "machine": ""},
+    Book: {"names": "", "entries": ""}}
+
+
+def written(signature):
+    return str(signature)[1:-1]
+
+
+class InterfaceTest(unittest.TestCase):
+    def test_functions_and_classes(self):
+        for module, names in LISTED.items():
+            held = vars(importlib.import_module(f"talepost.{module}"))
+            for name, parameters in names.items():
+                self.assertEqual(held[name].__module__, f"talepost.{module}")
+                self.assertEqual(written(inspect.signature(held[name])), parameters, name)
+
+    def test_methods(self):
+        for kind, names in METHODS.items():
+            for name, parameters in names.items():
+                self.assertIn(name, vars(kind))
+                bound = written(inspect.signature(getattr(kind, name)))
+                self.assertEqual(bound.removeprefix("self").removeprefix(", "), parameters, name)
+
+
+class ExamplesTest(unittest.TestCase):
+    def test_stocks(self):
+        self.assertEqual(list(Stock.shaped(Alphabet("ab", "a"), "V(J|C)*").texts(2)), ["a", "a-", "ab"])
+
+    def test_leads(self):
+        alphabet = Alphabet("ab")
+        machine = Machine(alphabet, [[("a", "b", 0)]], [True])
+        self.assertEqual([lead_rows(machine, machine), parting_text(machine, Machine.identity(alphabet))],
+                         [[(0, 0, "", "")], "a"])
+
+    def test_sure(self):
+        alphabet = Alphabet("ab")
+        first = Table(alphabet, [("a", "b"), ("b", "b")]).machine()
+        self.assertEqual(doubt(first, Machine.identity(alphabet), Stock.every(alphabet)), ("b", "a", "b", "a", "b"))
+
+    def test_growth(self):
+        self.assertEqual(growth(reader(Book(Alphabet("abk"), ("km", "abba", "k", "any")))), (4, 1, 0, "", ""))
+
+
+if __name__ == "__main__":
+    unittest.main()
