@@ -5,7 +5,6 @@ from talepost.machines import first_outs
 from talepost.nets import earliest, leading
 from talepost.wiring import by_read, must_go_alone, reading_net, tidy
 
-
 # A search that meets more leads than this is put off: machines of this size mostly part on one of the first
 # texts, if at all, and these texts can be tried one by one without looking at all pairs of places.
 HASTE = 3000
@@ -24,8 +23,7 @@ def parting_text(first, second):
         if len(early) <= SHORT and part_on(first, second, early):
             return early
     pairs.meet_all()
-    text, _, _ = search(pairs, None)
-    return text
+    return search(pairs, None)[0]
 
 
 def part_on(first, second, text):

@@ -49,15 +49,11 @@ class Machine:
         return len(self.arcs)
 
     def __mul__(self, other):
-        if not isinstance(other, Machine):
-            return NotImplemented
         check_alphabets([self, other])
         arcs, goods = product_table(self, other)
         return Machine(self.alphabet, arcs, goods)
 
     def __or__(self, other):
-        if not isinstance(other, Machine):
-            return NotImplemented
         check_alphabets([self, other])
         arcs, goods = union_table(self, other)
         return Machine(self.alphabet, arcs, goods)

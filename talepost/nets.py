@@ -198,6 +198,33 @@ def earliest(net, goods, most):
     return found
 
 
+def first_of_two(net, other, both):
+    """The first text that both nets have or, if `both` is False, that exactly one of them has; or None.
+
+    Each of the two is a pair (net, goods). The search over sets of places ends as soon as it meets the text.
+    """
+    rows, ends = merged(net[0], net[1])
+    other_rows, other_ends = merged(other[0], other[1])
+    layer = [("", tuple(closed(rows, [0])), tuple(closed(other_rows, [0])))]
+    seen = {layer[0][1:]: True}
+    while layer:
+        longer = []
+        for text, places, others in layer:
+            good = any([ends[place] for place in places])
+            other_good = any([other_ends[place] for place in others])
+            if (both and good and other_good) or (not both and good != other_good):
+                return text
+            steps, other_steps = onward(rows, places), onward(other_rows, others)
+            for sign in sorted(set(list(steps) + list(other_steps))):
+                ahead = (tuple(closed(rows, list(steps.get(sign, {})))),
+                         tuple(closed(other_rows, list(other_steps.get(sign, {})))))
+                if ahead not in seen and not (both and () in ahead):
+                    seen[ahead] = True
+                    longer.append((text + sign, ahead[0], ahead[1]))
+        layer = longer
+    return None
+
+
 def knots(net):
     """A number for each place, the same one for places that lead to each other."""
     before = backward(net)

@@ -58,22 +58,16 @@ class Stock:
         return self.goods[place]
 
     def __and__(self, other):
-        if not isinstance(other, Stock):
-            return NotImplemented
         check_alphabets([self, other])
         pairs, rows = pair_table(self, other, True, True)
         return Stock(self.alphabet, rows, [good_in(self, p) and good_in(other, q) for p, q in pairs])
 
     def __or__(self, other):
-        if not isinstance(other, Stock):
-            return NotImplemented
         check_alphabets([self, other])
         pairs, rows = pair_table(self, other, False, False)
         return Stock(self.alphabet, rows, [good_in(self, p) or good_in(other, q) for p, q in pairs])
 
     def __sub__(self, other):
-        if not isinstance(other, Stock):
-            return NotImplemented
         check_alphabets([self, other])
         pairs, rows = pair_table(self, other, True, False)
         return Stock(self.alphabet, rows, [good_in(self, p) and not good_in(other, q) for p, q in pairs])

@@ -3,8 +3,10 @@
 from talepost.errors import Uncertain
 from talepost.leads import parting_text
 from talepost.letters import check_alphabets, shortlex
-from talepost.machines import Machine, first_heard, first_outs, listener
-from talepost.stocks import Stock, differing
+from talepost.machines import first_heard, first_outs, keeper, listener
+from talepost.nets import first_of_two
+from talepost.stocks import Stock
+from talepost.wiring import reading_net
 
 
 def link(first, second, stock):
@@ -55,7 +57,8 @@ def same(first, second):
         text = parting_text(machine, machine)
         if text is not None:
             raise Uncertain(text)
-    return sooner(parting_text(first, second), differing(first.domain(), second.domain()))
+    alone = first_of_two((reading_net(first), first.goods), (reading_net(second), second.goods), False)
+    return sooner(parting_text(first, second), alone)
 
 
 def sooner(one, other):
@@ -67,16 +70,16 @@ def sooner(one, other):
 def returned(machine, stock):
     """The first text of the stock for which something else than this text alone is said, or None."""
     check_alphabets([machine, stock])
-    spoken = machine.on(stock)
-    silent = (stock - spoken.domain()).first()
-    return sooner(silent, parting_text(spoken, Machine.identity(machine.alphabet)))
+    spoken, kept = machine.on(stock), keeper(stock)
+    silent = first_of_two((reading_net(spoken), spoken.goods), (reading_net(kept), kept.goods), False)
+    return sooner(silent, parting_text(spoken, kept))
 
 
 def tells(machine, stock, asked):
     """The first text that leaves open whether the text of the stock belongs to `asked`, with two such; or None."""
     check_alphabets([machine, stock, asked])
-    inside, outside = stock & asked, stock - asked
-    out = (machine.image(inside) & machine.image(outside)).first()
+    inside, outside = ~machine.on(stock & asked), ~machine.on(stock - asked)
+    out = first_of_two((reading_net(inside), inside.goods), (reading_net(outside), outside.goods), True)
     if out is None:
         return None
-    return (out, first_outs(~machine.on(inside), out, 1)[0], first_outs(~machine.on(outside), out, 1)[0])
+    return (out, first_outs(inside, out, 1)[0], first_outs(outside, out, 1)[0])

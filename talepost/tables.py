@@ -76,20 +76,14 @@ class Table:
         return isinstance(other, Table) and self.alphabet == other.alphabet and self._pairs == other._pairs
 
     def __mul__(self, other):
-        if not isinstance(other, Table):
-            return NotImplemented
         check_alphabets([self, other])
         return Table(self.alphabet, [(told, out) for told, mid in self._pairs for out in other[mid]])
 
     def __or__(self, other):
-        if not isinstance(other, Table):
-            return NotImplemented
         check_alphabets([self, other])
         return Table(self.alphabet, self._pairs + other._pairs)
 
     def __and__(self, other):
-        if not isinstance(other, Table):
-            return NotImplemented
         check_alphabets([self, other])
         return Table(self.alphabet, [pair for pair in self._pairs if pair in other._pairs])
 
