@@ -2,9 +2,10 @@
 
 import random
 import unittest
+from unittest import mock
 
 from talepost.errors import Mixed
-from talepost.leads import lead_rows, leads_hold, parting_text
+from talepost.leads import lead_rows, leads_hold, part_on, parting_text
 from talepost.machines import Machine
 
 from helpers import AB, OTHER, by_order, counting_machine, pairs, random_machine, said, spelled
@@ -83,6 +84,23 @@ class PartingTest(unittest.TestCase):
                 self.assertEqual(rows, sorted(rows))
                 self.assertIs(leads_hold(one, other, rows[:-1]), False)
             self.assertEqual(kept, str([one.arcs, one.goods, other.arcs, other.goods]))
+
+    def test_part_on(self):
+        one, two, other = pairs(("a", "b")), pairs(("a", "b"), ("a", "-")), pairs(("a", "aa"), ("b", "b"))
+        for first, second, parts in [(one, one, False), (one, two, True), (two, one, True), (one, other, True),
+                                     (two, two, True), (two, pairs(), False), (pairs(), two, False)]:
+            self.assertIs(part_on(first, second, "a"), parts)
+
+    def test_search_that_is_put_off(self):
+        rng = random.Random(22)
+        for _ in range(100):
+            one, other = random_machine(rng), random_machine(rng)
+            text = parting_text(one, other)
+            for early in [12, 2, 0]:
+                with mock.patch("talepost.leads.HASTE", 1), mock.patch("talepost.leads.EARLY", early):
+                    self.assertEqual(parting_text(one, other), text)
+            with mock.patch("talepost.leads.HASTE", 2), mock.patch("talepost.leads.SHORT", 1):
+                self.assertEqual(parting_text(one, other), text)
 
     def test_mixed(self):
         mine, other = Machine.identity(AB), Machine.identity(OTHER)

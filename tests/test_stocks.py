@@ -216,7 +216,8 @@ class QuestionsTest(unittest.TestCase):
         self.assertEqual(Stock.listed(AB, [""]).extent(), ("most", 0))
         self.assertEqual(shape("a?b?|-").extent(), ("most", 2))
         self.assertEqual(Stock.listed(AB, ["a" * 60, "b"]).extent(), ("most", 60))
-        for stock in [Stock.every(AB), shape("ba(a|bb)*-"), shape("a|bb*"), counting_stock(AB, 60), shape("-(ab)+|a")]:
+        for stock in [Stock.every(AB), shape("ba(a|bb)*-"), shape("a|bb*"), counting_stock(AB, 60), shape("-(ab)+|a"),
+                      shape("(a-*b)*")]:
             word, one, two, three = stock.extent()
             self.assertEqual(word, "loop")
             self.assertNotEqual(two, "")
