@@ -1,6 +1,6 @@
 """Nets: for each place a list of steps (label, next), and whether the place is good; place 0 is the start.
 
-Operators use these functions, so they change only lists and dicts that they made themselves.
+Operators use these functions, so each of them changes only lists and dicts that it made itself, by plain names.
 """
 
 
@@ -20,11 +20,20 @@ def leading(net, goods):
 
 def backward(net):
     """For each place, the places that have a step to it."""
-    before = [[] for _ in net]
-    for place, row in enumerate(net):
-        for _, to in row:
-            before[to].append(place)
-    return before
+    before = gathered(sorted([(to, place) for place, row in enumerate(net) for _, to in row]))
+    return [before.get(place, []) for place in range(len(net))]
+
+
+def gathered(rows):
+    """For each key of a sorted list of rows (key, item), the list of its items."""
+    lists = {}
+    listed = []
+    for at, (key, thing) in enumerate(rows):
+        listed.append(thing)
+        if at + 1 == len(rows) or rows[at + 1][0] != key:
+            lists[key] = listed
+            listed = []
+    return lists
 
 
 def trimmed(net, goods):
@@ -71,22 +80,24 @@ def alike(net, goods):
     """A number for each place, the same one for places with the same continuations, label by label."""
     before = backward(net)
     block = [0 if good else 1 for good in goods]
-    members = [{}, {}]
-    for place, number in enumerate(block):
-        members[number][place] = True
+    # Places that have left a block may stay in its list; they have another number.
+    members = [[at for at, good in enumerate(goods) if good], [at for at, good in enumerate(goods) if not good]]
+    sizes = [len(listed) for listed in members]
     touched = list(range(len(net)))
     while touched:
         moved = []
         parts = parts_of(net, block, touched)
         for number in parts:
             # A largest part keeps the number: so no place moves more often than its block can be halved.
-            leaving = leaving_parts(parts[number], members[number])
+            staying, leaving = divided(parts[number], number, block, sizes[number], members[number])
+            if staying is not None:
+                members[number] = staying
             for part in leaving:
-                members.append({})
                 for place in part:
-                    del members[number][place]
-                    members[-1][place] = True
-                    block[place] = len(members) - 1
+                    block[place] = len(members)
+                sizes[number] = sizes[number] - len(part)
+                sizes.append(len(part))
+                members.append(part)
                 moved.extend(part)
         touched = sorted(set([earlier for place in moved for earlier in before[place]]))
     return block
@@ -94,33 +105,32 @@ def alike(net, goods):
 
 def parts_of(net, block, touched):
     """For each block, the lists of its touched places that have the same steps to the same blocks."""
-    groups = {}
+    number = {}
+    marked = []
     for place in touched:
         steps = sorted(set([(label, block[to]) for label, to in net[place]]))
         mark = (block[place], tuple(steps))
-        if mark not in groups:
-            groups[mark] = []
-        groups[mark].append(place)
-    parts = {}
-    for mark in groups:
-        if mark[0] not in parts:
-            parts[mark[0]] = []
-        parts[mark[0]].append(groups[mark])
-    return parts
+        if mark not in number:
+            number[mark] = len(number)
+        marked.append((number[mark], place))
+    same = gathered(sorted(marked))
+    return gathered(sorted([(block[part[0]], part) for part in same.values()]))
 
 
-def leaving_parts(parts, whole):
-    """The parts of a block but a largest one; its places that are in none of the parts are one more part."""
-    most = max([len(part) for part in parts])
-    rest = len(whole) - sum([len(part) for part in parts])
-    if rest >= most:
-        return parts
-    staying = [len(part) for part in parts].index(most)
-    leaving = [part for at, part in enumerate(parts) if at != staying]
+def divided(parts, number, block, size, listed):
+    """A largest part of a block, and the list of the others; None stands for the places that are in no part.
+
+    The block has the number and the size. Its places, and others that have left it, are listed.
+    """
+    largest = max([(len(part), at) for at, part in enumerate(parts)])[1]
+    rest = size - sum([len(part) for part in parts])
+    if rest >= len(parts[largest]):
+        return None, parts
+    leaving = [part for at, part in enumerate(parts) if at != largest]
     if rest == 0:
-        return leaving
-    listed = {place: True for part in parts for place in part}
-    return leaving + [[place for place in whole if place not in listed]]
+        return parts[largest], leaving
+    in_parts = {place: True for part in parts for place in part}
+    return parts[largest], leaving + [[place for place in listed if block[place] == number and place not in in_parts]]
 
 
 def closed(net, places):

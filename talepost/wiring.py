@@ -1,6 +1,6 @@
 """Tables of letter machines: arcs and goods, as a machine keeps them.
 
-Operators use these functions, so they change only lists and dicts that they made themselves.
+Operators use these functions, so each of them changes only lists and dicts that it made itself, by plain names.
 """
 
 from talepost.nets import knots, merged
@@ -16,9 +16,9 @@ def tidy(arcs, goods):
 
 def product_table(first, second):
     """Arcs and goods of two machines behind each other."""
-    second_steps = [by_read(row) for row in second.arcs]
-    silent = [must_go_alone(row, first.goods[p], 1) for p, row in enumerate(first.arcs)]
-    deaf = [must_go_alone(row, second.goods[q], 0) for q, row in enumerate(second.arcs)]
+    second_steps = [by_read(leaving) for leaving in second.arcs]
+    silent = [must_go_alone(leaving, first.goods[p], 1) for p, leaving in enumerate(first.arcs)]
+    deaf = [must_go_alone(leaving, second.goods[q], 0) for q, leaving in enumerate(second.arcs)]
     pairs = [(0, 0)]
     number = {(0, 0): 0}
     arcs = []
@@ -48,9 +48,7 @@ def by_read(row):
     """For each sign that the arcs of a place read, and for the empty string, the list of (write, next)."""
     steps = {}
     for read, write, to in row:
-        if read not in steps:
-            steps[read] = []
-        steps[read].append((write, to))
+        steps[read] = steps.get(read, []) + [(write, to)]
     return steps
 
 

@@ -67,6 +67,10 @@ class Source:
 SOURCES = [Source(path) for path in FILES]
 OWN_METHODS = {item.name for source in SOURCES for node in source.classes for item in node.body
                if isinstance(item, ast.FunctionDef)}
+ATTRIBUTES = {inner.attr for source in SOURCES for inner in source.nodes
+              if isinstance(inner, ast.Attribute) and isinstance(inner.ctx, ast.Store)}
+# Methods that may change their object; all others with two underscores are operators.
+MAY_CHANGE = {"__init__", "__call__", "__iadd__", "__setitem__"}
 GENERATORS = {node.name for source in SOURCES for node in source.functions
               if any(isinstance(inner, (ast.Yield, ast.YieldFrom)) for inner in ast.walk(node))}
 
@@ -352,42 +356,108 @@ class LanguageTest(unittest.TestCase):
         self.each(check)
 
     def test_l5_operators_change_nothing(self):
-        reached, queue = {}, []
-        for source in SOURCES:
-            for node in source.functions:
-                marked = any(isinstance(mark, ast.Name) and mark.id == "property" for mark in node.decorator_list)
-                if marked or (node.name.startswith("__") and node.name not in {"__init__", "__iadd__", "__setitem__"}):
-                    queue.append((source, node))
-        while queue:
-            source, node = queue.pop()
-            if node in reached:
-                continue
+        for node, source in reached_by_operators().items():
+            with self.subTest(file=source.name, function=node.name):
+                self.check_changes_nothing(source, node)
+
+    def check_changes_nothing(self, source, function):
+        made = made_in(function)
+        for node in ast.walk(function):
+            self.assertNotIsInstance(node, ast.AugAssign, self.at(source, node, "L5"))
+            if isinstance(node, ast.Call) and isinstance(node.func, ast.Name):
+                self.assertNotIn(node.func.id, locals_of(function), self.at(source, node, "L5"))
+            if isinstance(node, ast.Call) and isinstance(node.func, ast.Attribute):
+                self.assertNotIn(node.func.attr, ATTRIBUTES, self.at(source, node, "L5, L18"))
+            for changed in changed_things(node):
+                fresh = isinstance(changed, ast.Name) and changed.id in made
+                self.assertTrue(fresh or sets_own_attribute(function, node), self.at(source, node, "L5"))
+
+    def test_l5_the_check_sees_what_is_held(self):
+        held = ["before[to].append(place)", "del members[number][place]", "members[-1][place] = True", "xs.append(1)",
+                "groups[mark].extend(part)", "row.append(1)", "net.append(1)", "self.rows.append(1)", "self.rows = []",
+                "shared[0] = 1", "del one[0]", "part.clear()"]
+        for changing in held:
+            written = f"""def found(net, *xs):
+    before, members, groups = [[]], [{{}}], {{}}
+    shared = net
+    row = []
+    one, other = [], []
+    both = [row for row in net]
+    for part in net:
+        part = []
+        {changing}"""
+            function = ast.parse(written).body[0]
+            seen = [changed for node in ast.walk(function) for changed in changed_things(node)]
+            self.assertEqual(len(seen), 1, changing)
+            self.assertFalse(isinstance(seen[0], ast.Name) and seen[0].id in made_in(function), changing)
+        function = ast.parse("def made(net):\n    xs = list(net)\n    xs[0] = 1\n    xs.pop()\n    del xs[1]").body[0]
+        self.assertEqual([changed.id for node in ast.walk(function) for changed in changed_things(node)], ["xs"] * 3)
+        self.assertEqual(made_in(function), {"xs"})
+
+
+def reached_by_operators():
+    """The functions that operators and properties run, with the files in which they stand."""
+    reached, queue = {}, []
+    for source in SOURCES:
+        for node in source.functions:
+            marked = any(isinstance(mark, ast.Name) and mark.id == "property" for mark in node.decorator_list)
+            if marked or (node.name.startswith("__") and node.name not in MAY_CHANGE):
+                queue.append((source, node))
+    while queue:
+        source, node = queue.pop()
+        if node not in reached:
             reached[node] = source
             for inner in ast.walk(node):
                 if isinstance(inner, ast.Call):
                     queue.extend(called(inner))
-        for node, source in reached.items():
-            self.check_changes_nothing(source, node)
+    return reached
 
-    def check_changes_nothing(self, source, function):
-        made, other = set(), {arg.arg for arg in function.args.args}
-        for node in ast.walk(function):
-            if isinstance(node, ast.Assign):
-                fresh = isinstance(node.value, (ast.List, ast.Dict, ast.ListComp)) or (
-                    isinstance(node.value, ast.Call) and isinstance(node.value.func, ast.Name)
-                    and node.value.func.id in {"list", "dict", "sorted"})
-                for target in node.targets:
-                    if isinstance(target, ast.Name):
-                        (made if fresh else other).add(target.id)
-                    elif isinstance(target, ast.Tuple):
-                        other.update(part.id for part in target.elts if isinstance(part, ast.Name))
-            self.assertNotIsInstance(node, ast.AugAssign, self.at(source, node, "L5"))
-            if isinstance(node, ast.Call) and isinstance(node.func, ast.Name):
-                self.assertNotIn(node.func.id, locals_of(function), self.at(source, node, "L5"))
-        for node in ast.walk(function):
-            name = changed_root(node)
-            if name is not None and not (function.name == "__init__" and name == "self"):
-                self.assertIn(name, made - other, self.at(source, node, "L5"))
+
+def made_in(function):
+    """The plain local names that are only given lists and dicts that the function makes."""
+    made = set()
+    other = {arg.arg for arg in function.args.args + function.args.kwonlyargs}
+    other |= {star.arg for star in (function.args.vararg, function.args.kwarg) if star}
+    for node in ast.walk(function):
+        targets = []
+        if isinstance(node, ast.Assign):
+            for target in node.targets:
+                if isinstance(target, ast.Name) and is_fresh(node.value):
+                    made.add(target.id)
+                else:
+                    targets.append(target)
+        elif isinstance(node, (ast.For, ast.comprehension)):
+            targets.append(node.target)
+        for target in targets:
+            other |= {part.id for part in ast.walk(target) if isinstance(part, ast.Name) and isinstance(part.ctx, ast.Store)}
+    return made - other
+
+
+def is_fresh(value):
+    """Whether the value is a list or a dict that is made here."""
+    if isinstance(value, ast.Call):
+        return isinstance(value.func, ast.Name) and value.func.id in {"list", "dict", "sorted"}
+    return isinstance(value, (ast.List, ast.Dict, ast.ListComp))
+
+
+def changed_things(node):
+    """What a piece of code changes in place: the names, attributes or items that stand for it."""
+    if isinstance(node, (ast.Assign, ast.Delete)):
+        flat = [part for target in node.targets for part in ast.walk(target)]
+        return [part.value for part in flat if isinstance(part, (ast.Subscript, ast.Attribute))
+                and not isinstance(part.ctx, ast.Load)]
+    if isinstance(node, ast.Call) and isinstance(node.func, ast.Attribute) and node.func.attr in CHANGING:
+        return [node.func.value]
+    return []
+
+
+def sets_own_attribute(function, node):
+    """Whether an `__init__` sets attributes of its object."""
+    if function.name != "__init__" or not isinstance(node, ast.Assign):
+        return False
+    targets = [part for target in node.targets for part in (target.elts if isinstance(target, ast.Tuple) else [target])]
+    return all(isinstance(target, ast.Attribute) and isinstance(target.value, ast.Name) and target.value.id == "self"
+               for target in targets)
 
 
 def called(call):
