@@ -60,8 +60,13 @@ def differ_within(text, allowed):
 
 def check_alphabets(things):
     """Raise Mixed unless the objects of a list have equal alphabets."""
+    check_shared(things[0].alphabet, things)
+
+
+def check_shared(alphabet, things):
+    """Raise Mixed unless each object of a list has this alphabet."""
     for thing in things:
-        if thing.alphabet != things[0].alphabet:
+        if thing.alphabet != alphabet:
             raise Mixed()
 
 

@@ -5,10 +5,13 @@ import inspect
 import unittest
 
 from talepost.books import Book
+from talepost.casts import Cast
 from talepost.growth import growth
 from talepost.leads import lead_rows, parting_text
 from talepost.letters import Alphabet
+from talepost.lots import Lot
 from talepost.machines import Machine
+from talepost.people import Doubter, Knower, KnowingDoubter, Person
 from talepost.standings import reader
 from talepost.stocks import Stock
 from talepost.sure import doubt
@@ -24,6 +27,13 @@ LISTED = {
              "returned": "machine, stock", "tells": "machine, stock, asked"},
     "growth": {"growth": "machine", "pump": "machine"},
     "tables": {"Table": "alphabet, pairs"},
+    "losing": {"greatest_behind": "first, whole", "greatest_ahead": "last, whole", "further": "first, whole",
+               "earlier": "last, whole"},
+    "people": {"Person": "alphabet, hears, says", "Knower": "alphabet, hears, says, knows",
+               "Doubter": "alphabet, hears, says", "KnowingDoubter": "alphabet, hears, says, knows"},
+    "casts": {"Cast": "alphabet, **people"},
+    "lots": {"Lot": "cast, *, most=150"},
+    "echoes": {"echo": "there, back, text", "ranks": "cast", "ring": "cast"},
     "books": {"Book": "alphabet, *entries"},
     "scanning": {name: "book, text, *, after='start'" for name in ["write_steps", "read_steps", "shorten", "expand"]},
     "standings": {"writer": "book, *, using=None", "reader": "book, *, taking=None"}}
@@ -35,6 +45,10 @@ METHODS = {
               "into": "stock", "image": "stock", "source": "stock", "domain": "", "outs": "text", "says": "text, out"},
     Table: {"identity": "alphabet", "full": "alphabet", "empty": "alphabet", "read": "alphabet, written", "pairs": "",
             "within": "other", "machine": ""},
+    Person: {"heard": "sign", "said": "sign"}, Knower: {"said": "sign"}, Doubter: {"said": "sign"},
+    KnowingDoubter: {"said": "sign"},
+    Cast: {"put": "letter, person", "leave": "letter", "members": "", "through": "row"},
+    Lot: {"names": "", "walk": "", "name_of": "table", "least": "row", "behind": "row, other", "union": "", "machine": ""},
     Book: {"names": "", "entries": ""}}
 
 

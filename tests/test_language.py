@@ -274,7 +274,10 @@ class LanguageTest(unittest.TestCase):
         def check(source):
             errors = {node.name for node in SOURCES[[each.name for each in SOURCES].index("errors")].classes}
             for node in source.nodes:
-                self.assertNotIsInstance(node, ast.Try, self.at(source, node, "L19"))
+                if isinstance(node, ast.ExceptHandler):
+                    self.assertIn(node.type.id, errors, self.at(source, node, "L19"))
+                if isinstance(node, ast.Try):
+                    self.assertFalse(node.finalbody, self.at(source, node, "L6"))
                 if isinstance(node, ast.Raise):
                     self.assertIsInstance(node.exc, ast.Call, self.at(source, node, "L19"))
                     self.assertIn(node.exc.func.id, errors | {"TypeError"}, self.at(source, node, "L19"))
@@ -409,7 +412,7 @@ def reached_by_operators():
             reached[node] = source
             for inner in ast.walk(node):
                 if isinstance(inner, ast.Call):
-                    queue.extend(called(inner))
+                    queue.extend(called(source, node, inner))
     return reached
 
 
@@ -460,18 +463,34 @@ def sets_own_attribute(function, node):
                for target in targets)
 
 
-def called(call):
+def called(source, function, call):
+    """The functions and methods that the call may run: of all classes, unless it is clear which one is meant."""
     name = call.func.id if isinstance(call.func, ast.Name) else getattr(call.func, "attr", "")
-    for source in SOURCES:
-        for node in source.functions:
-            in_class = isinstance(source.above[node], ast.ClassDef)
+    if name == "__init__":
+        yield from makers(bases_of(source.above[function]))
+        return
+    for each in SOURCES:
+        for node in each.functions:
+            in_class = isinstance(each.above[node], ast.ClassDef)
             if node.name == name and in_class == isinstance(call.func, ast.Attribute):
-                yield source, node
+                yield each, node
+    yield from makers([name])
+
+
+def bases_of(written_class):
+    return [base.id for base in written_class.bases if isinstance(base, ast.Name)]
+
+
+def makers(names):
+    """The `__init__` of the classes of these names, or that of their base classes."""
+    for source in SOURCES:
         for node in source.classes:
-            if node.name == name:
-                for item in node.body:
-                    if isinstance(item, ast.FunctionDef) and item.name == "__init__":
-                        yield source, item
+            if node.name in names:
+                own = [item for item in node.body if isinstance(item, ast.FunctionDef) and item.name == "__init__"]
+                if own:
+                    yield source, own[0]
+                else:
+                    yield from makers(bases_of(node))
 
 
 def changed_root(node):
