@@ -8,19 +8,27 @@ from talepost.scanning import longest_rule, scan_rules
 
 def writer(book, *, using=None):
     """The machine that says what the book writes; if `using` is a name, only where its entry is used."""
-    return scanner(book, False, using)
+    check_wanted(book, using)
+    return scanner(book.alphabet, scan_rules(book, False), False, using)
 
 
 def reader(book, *, taking=None):
     """The machine that says what the book reads; if `taking` is a name, only where its entry is used."""
-    return scanner(book, True, taking)
+    check_wanted(book, taking)
+    return scanner(book.alphabet, scan_rules(book, True), True, taking)
 
 
-def scanner(book, reading, wanted):
-    """The machine of a scan. Its situations are (kind, signs that are held back, whether the wanted entry was used)."""
-    if wanted is not None and wanted not in book:
-        raise UnknownName(wanted)
-    rules = scan_rules(book, reading)
+def check_wanted(book, name):
+    """Raise UnknownName if the name is not None and no entry has it."""
+    if name is not None and name not in book:
+        raise UnknownName(name)
+
+
+def scanner(alphabet, rules, reading, wanted):
+    """The machine of a scan with rules as `scan_rules` gives them; if `wanted` is a name, only where its rule is used.
+
+    Its situations are (kind, signs that are held back, whether the wanted rule was used).
+    """
     situations = [("start", "", wanted is None)]
     number = {situations[0]: 0}
     rows = []
@@ -28,7 +36,7 @@ def scanner(book, reading, wanted):
     while len(rows) < len(situations):
         kind, held, used = situations[len(rows)]
         row = []
-        for sign in book.alphabet.signs:
+        for sign in alphabet.signs:
             written, after = decided(rules, reading, wanted, (kind, held + sign, used), False)
             if after not in number:
                 number[after] = len(situations)
@@ -37,7 +45,7 @@ def scanner(book, reading, wanted):
         rows.append(row)
         written, after = decided(rules, reading, wanted, (kind, held, used), True)
         ends.append(written if after[2] else None)
-    return Machine.spelled(book.alphabet, rows, ends)
+    return Machine.spelled(alphabet, rows, ends)
 
 
 def decided(rules, reading, wanted, situation, at_end):

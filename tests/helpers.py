@@ -2,6 +2,8 @@
 
 import itertools
 
+from talepost.books import Book
+from talepost.errors import Conflict
 from talepost.letters import Alphabet
 from talepost.machines import Machine
 from talepost.stocks import Stock
@@ -9,6 +11,9 @@ from talepost.stocks import Stock
 AB = Alphabet("ab", "a")
 OTHER = Alphabet("ab")
 ABK = Alphabet("abk")
+
+# The kinds that each place of an entry allows.
+ALLOWED = {"any": ["start", "joint", "letter"], "opening": ["start", "joint"], "inner": ["letter"]}
 
 
 def all_texts(alphabet, most):
@@ -75,3 +80,33 @@ def pairs(*listed, alphabet=AB):
 
 def spelled(rows, ends, alphabet=AB):
     return Machine.spelled(alphabet, rows, ends)
+
+
+def slow_scan(entries, text, after, reading):
+    """The steps of a scan, sign by sign, straight from the words of the document."""
+    steps, index, made = [], 0, ""
+    while index < len(text):
+        before = made if reading else text[:index]
+        kind = after if before == "" else "joint" if before[-1] == "-" else "letter"
+        best = ("", text[index], text[index])
+        longest = 0
+        for name, long, short, place in entries:
+            seen, piece = (short, long) if reading else (long, short)
+            if kind in ALLOWED[place] and text.startswith(seen, index) and len(seen) > longest:
+                best, longest = (name, seen, piece), len(seen)
+        steps.append((index, best[0], best[2]))
+        index += len(best[1])
+        made += best[2]
+    return steps
+
+
+def random_book(rng):
+    book = Book(AB)
+    for letter in "abcdef"[:rng.randint(1, 6)]:
+        long = "".join(rng.choice("-ab") for _ in range(rng.randint(1, 4)))
+        short = "".join(rng.choice("-ab") for _ in range(rng.randint(1, 3)))
+        try:
+            book = book + (letter, long, short, rng.choice(["any", "opening", "inner"]))
+        except Conflict:
+            pass
+    return book

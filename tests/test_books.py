@@ -12,9 +12,8 @@ from talepost.scanning import expand, read_steps, shorten, write_steps
 from talepost.standings import reader, writer
 from talepost.sure import is_certain
 
-from helpers import AB, ABK, OTHER, all_texts
+from helpers import AB, ABK, OTHER, all_texts, random_book, slow_scan
 
-ALLOWED = {"any": ["start", "joint", "letter"], "opening": ["start", "joint"], "inner": ["letter"]}
 EIGHT = [("n" + letter, "ab-"[at % 3] + "ab-"[at // 3], "a" * (at % 4 + 1) + "b" * (at // 4), "any")
          for at, letter in enumerate("abcdefgh")]
 
@@ -120,35 +119,6 @@ class BookTest(unittest.TestCase):
         self.assertLessEqual(set(listed), set(vars(Book)))
 
 
-def slow_scan(book, text, after, reading):
-    steps, index, made = [], 0, ""
-    while index < len(text):
-        before = made if reading else text[:index]
-        kind = after if before == "" else "joint" if before[-1] == "-" else "letter"
-        best = ("", text[index], text[index])
-        longest = 0
-        for name, long, short, place in book.entries():
-            seen, piece = (short, long) if reading else (long, short)
-            if kind in ALLOWED[place] and text.startswith(seen, index) and len(seen) > longest:
-                best, longest = (name, seen, piece), len(seen)
-        steps.append((index, best[0], best[2]))
-        index += len(best[1])
-        made += best[2]
-    return steps
-
-
-def random_book(rng):
-    book = Book(AB)
-    for letter in "abcdef"[:rng.randint(1, 6)]:
-        long = "".join(rng.choice("-ab") for _ in range(rng.randint(1, 4)))
-        short = "".join(rng.choice("-ab") for _ in range(rng.randint(1, 3)))
-        try:
-            book = book + (letter, long, short, rng.choice(["any", "opening", "inner"]))
-        except Conflict:
-            pass
-    return book
-
-
 class ScanningTest(unittest.TestCase):
     def setUp(self):
         self.book = Book(ABK, ("km", "abba", "k", "any"), ("kn", "ab", "kk", "inner"), ("ko", "a", "b", "opening"))
@@ -211,10 +181,10 @@ class ScanningTest(unittest.TestCase):
             for _ in range(20):
                 text = "".join(rng.choice("-ab") for _ in range(rng.randint(0, 60)))
                 for after in ["start", "joint", "letter"]:
-                    steps = slow_scan(book, text, after, False)
+                    steps = slow_scan(book.entries(), text, after, False)
                     self.assertEqual(list(write_steps(book, text, after=after)), steps)
                     self.assertEqual(shorten(book, text, after=after), "".join(step[2] for step in steps))
-                    steps = slow_scan(book, text, after, True)
+                    steps = slow_scan(book.entries(), text, after, True)
                     self.assertEqual(list(read_steps(book, text, after=after)), steps)
                     self.assertEqual(expand(book, text, after=after), "".join(step[2] for step in steps))
 
