@@ -98,13 +98,11 @@ class Lot:
 
     def machine(self):
         """A machine that says what at least one row says: all signs of a text go through the same row."""
-        arcs = [[]]
-        for table in greatest_of(self._tables):
-            here = len(arcs)
-            arcs.append([(told, out, here) for told, out in table.pairs()])
-            arcs[0].extend(arcs[here])
-        tidied, goods = tidy(arcs, [True for _ in arcs])
-        return Machine(self.alphabet, tidied, goods)
+        rows = [[(told, out, at + 1) for told, out in table.pairs()]
+                for at, table in enumerate(greatest_of(self._tables))]
+        first = [arc for row in rows for arc in row]
+        arcs, goods = tidy([first, *rows], [True for _ in range(len(rows) + 1)])
+        return Machine(self.alphabet, arcs, goods)
 
 
 def greatest_of(tables):

@@ -177,13 +177,9 @@ def marked(stage, text):
 
 def drop_words(stage, ending):
     """The words of the written form of a Drop, with the ones at its end."""
-    words = ["drop", stage.name]
-    if stage.after > 0:
-        words.extend(["after", str(stage.after)])
-    if stage.each:
-        words.append("each")
-    words.extend(ending)
-    return words
+    numbered = ["after", str(stage.after)] if stage.after > 0 else []
+    anew = ["each"] if stage.each else []
+    return ["drop", stage.name, *numbered, *anew, *ending]
 
 
 def read_stage(alphabet, written):

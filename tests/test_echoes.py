@@ -117,6 +117,9 @@ class RankTest(unittest.TestCase):
         cast = Cast(FIVE, A=Person(FIVE, "-abcd", ["ab", "a", "c", "c", "d"]), B=Person(FIVE, "-abcd", ["-", "c", "b", "-", "d"]))
         self.assertEqual(ring(cast), ("-", "a", "A", "BB"))
         self.assertEqual(str(cast.through("AA")), "->ac a>a b>c c>c d>d")
+        # For a, the person A says b or c; both say "-" then, B for b and A for c: so the later sign has the lesser row.
+        cast = Cast(FIVE, A=Person(FIVE, "-abcd", ["ab", "bc", "b", "-", "d"]), B=Person(FIVE, "-abcd", list("-a-cd")))
+        self.assertEqual(ring(cast), ("-", "a", "A", "AA"))
 
     def test_five_signs(self):
         rng = random.Random(63)

@@ -332,6 +332,16 @@ class LanguageTest(unittest.TestCase):
                 self.assertEqual(names.count(name), 1, name)
         self.each(check)
 
+    def test_l26_own_methods(self):
+        held = {name for kind in (str, int, list, dict, set, bytes) for name in dir(kind)}
+        # The document lists a method `union` of a lot.
+        free = METHODS | {"add", "discard", "union"}
+        for source in SOURCES:
+            for node in source.classes:
+                for item in node.body:
+                    if isinstance(item, ast.FunctionDef) and not item.name.startswith("__"):
+                        self.assertFalse(item.name in held and item.name not in free, self.at(source, item, "L26"))
+
     def test_l27_strings(self):
         def check(source):
             for node in source.nodes:
