@@ -14,7 +14,7 @@ class Cast:
         check_shared(alphabet, list(people.values()))
         tables = {}
         for letter in sorted(list(people)):
-            check_seat(tables, letter)
+            check_seat(tables, letter, MOST_PEOPLE)
             tables[letter] = people[letter].table
         self.alphabet = alphabet
         self._tables = tables
@@ -39,7 +39,7 @@ class Cast:
     def put(self, letter, person):
         """Add the person under the letter, or replace the one who has it."""
         check_alphabets([self, person])
-        check_seat(self._tables, letter)
+        check_seat(self._tables, letter, MOST_PEOPLE)
         self._tables[letter] = person.table
 
     def leave(self, letter):
@@ -61,12 +61,12 @@ class Cast:
         return table
 
 
-def check_seat(seats, letter):
-    """Raise the first error of putting somebody under the letter; `seats` has those who have letters."""
+def check_seat(seats, letter, most):
+    """Raise the first error of a new seat under the letter; `seats` has the others, at most so many."""
     if len(letter) != 1 or not "A" <= letter <= "Z":
         raise BadLetter(letter)
-    if letter not in seats and len(seats) >= MOST_PEOPLE:
-        raise TooMany(MOST_PEOPLE)
+    if letter not in seats and len(seats) >= most:
+        raise TooMany(most)
 
 
 def check_row(seats, row):

@@ -173,7 +173,9 @@ def search(pairs, most):
                     if pairs.is_useful(to) and sign == "":
                         queue.append((to, after_move(gap, left, right)))
                     elif pairs.is_useful(to):
-                        steps[sign] = steps.get(sign, []) + [(to, after_move(gap, left, right))]
+                        if sign not in steps:
+                            steps[sign] = []
+                        steps[sign].append((to, after_move(gap, left, right)))
             for sign in sorted(list(steps)):
                 longer.append((text + sign, steps[sign]))
         layer = longer

@@ -55,7 +55,7 @@ class Machine:
 
     def __or__(self, other):
         check_alphabets([self, other])
-        arcs, goods = union_table(self, other)
+        arcs, goods = union_table([self, other])
         return Machine(self.alphabet, arcs, goods)
 
     def __invert__(self):
@@ -140,6 +140,12 @@ def keeper(stock):
     signs = stock.alphabet.signs
     arcs = [[(signs[at], signs[at], to) for at, to in enumerate(row) if to >= 0] for row in stock.rows]
     return Machine(stock.alphabet, arcs, stock.goods)
+
+
+def any_of(alphabet, machines):
+    """The machine that says what at least one machine of a list says."""
+    arcs, goods = union_table(machines)
+    return Machine(alphabet, arcs, goods)
 
 
 def first_outs(machine, text, most):

@@ -208,16 +208,17 @@ def earliest(net, goods, most):
     return found
 
 
-def first_of_two(net, other, both):
+def first_of_two(net, other, both, most=None):
     """The first text that both nets have or, if `both` is False, that exactly one of them has; or None.
 
     Each of the two is a pair (net, goods). The search over sets of places ends as soon as it meets the text.
+    Unless `most` is None, no text with more signs is looked for.
     """
     rows, ends = merged(net[0], net[1])
     other_rows, other_ends = merged(other[0], other[1])
     layer = [("", tuple(closed(rows, [0])), tuple(closed(other_rows, [0])))]
     seen = {layer[0][1:]: True}
-    while layer:
+    while layer and (most is None or len(layer[0][0]) <= most):
         longer = []
         for text, places, others in layer:
             good = any([ends[place] for place in places])

@@ -35,8 +35,13 @@ def doubt(first, second, stock):
     if found is None:
         return None
     out, one, other = found
-    heard = listener(only(first.on(stock), out))
-    return (out, one, other, first_heard(heard * only(second, one)), first_heard(heard * only(second, other)))
+    texts = [first_sent(first, second, stock, (out, each)) for each in [one, other]]
+    return (out, one, other, *texts)
+
+
+def first_sent(first, second, stock, outs):
+    """The first text of the stock for which `first` says the first of two texts and `second` the other one; or None."""
+    return first_heard(listener(only(first.on(stock), outs[0])) * only(second, outs[1]))
 
 
 def only(machine, out):
@@ -53,12 +58,30 @@ def melted(machine, stock):
 def same(first, second):
     """The first text for which two certain machines do not say the same, or None."""
     check_alphabets([first, second])
-    for machine in [first, second]:
-        text = parting_text(machine, machine)
-        if text is not None:
-            raise Uncertain(text)
-    alone = first_of_two((reading_net(first), first.goods), (reading_net(second), second.goods), False)
-    return sooner(parting_text(first, second), alone)
+    check_certain(first)
+    check_certain(second)
+    return differ_on(first, second)
+
+
+def check_certain(machine):
+    """Raise Uncertain unless the machine is certain."""
+    text = parting_text(machine, machine)
+    if text is not None:
+        raise Uncertain(text)
+
+
+def differ_on(first, second):
+    """The first text for which only one of the machines says something, or both say different texts; or None.
+
+    If it is None, both machines are certain: what one says for a text is equal to all that the other one says.
+    """
+    return sooner_alone(parting_text(first, second), first, second)
+
+
+def sooner_alone(found, first, second):
+    """The first text for which only one of the machines says something, if no other one is found sooner."""
+    nets = [(reading_net(machine), machine.goods) for machine in [first, second]]
+    return sooner(found, first_of_two(nets[0], nets[1], False, None if found is None else len(found)))
 
 
 def sooner(one, other):
@@ -71,8 +94,7 @@ def returned(machine, stock):
     """The first text of the stock for which something else than this text alone is said, or None."""
     check_alphabets([machine, stock])
     spoken, kept = machine.on(stock), keeper(stock)
-    silent = first_of_two((reading_net(spoken), spoken.goods), (reading_net(kept), kept.goods), False)
-    return sooner(silent, parting_text(spoken, kept))
+    return sooner_alone(parting_text(spoken, kept), spoken, kept)
 
 
 def tells(machine, stock, asked):

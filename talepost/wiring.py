@@ -63,13 +63,17 @@ def product_arcs(arcs, p, q, steps):
     return row
 
 
-def union_table(first, second):
-    """Arcs and goods of a machine that says what at least one of two machines says."""
-    ahead = 1
-    behind = 1 + len(first.arcs)
-    start = shifted(first.arcs[0], ahead) + shifted(second.arcs[0], behind)
-    arcs = [start] + [shifted(row, ahead) for row in first.arcs] + [shifted(row, behind) for row in second.arcs]
-    return tidy(arcs, [first.goods[0] or second.goods[0]] + first.goods + second.goods)
+def union_table(machines):
+    """Arcs and goods of a machine that says what at least one machine of a list says."""
+    start = []
+    arcs = []
+    many = 1
+    for machine in machines:
+        start.extend(shifted(machine.arcs[0], many))
+        arcs.extend([shifted(row, many) for row in machine.arcs])
+        many = many + len(machine.arcs)
+    goods = [good for machine in machines for good in machine.goods]
+    return tidy([start] + arcs, [any([machine.goods[0] for machine in machines])] + goods)
 
 
 def shifted(row, many):

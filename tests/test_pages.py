@@ -7,70 +7,10 @@ from talepost.errors import BadKey, BadText
 from talepost.letters import Alphabet
 from talepost.pages import HOLD, Page
 
-from helpers import AB, ABK
+from helpers import AB, ABK, SlowPage
 
 ODD = Alphabet("xwmp", "w")
 KEYS = [">", "x", "w", "^", "m", "k", "c", "p"] + [kind + sign for kind in "'=/" for sign in "-ab"]
-
-
-class SlowPage:
-    """A page as a list of signs ahead of the caret and one of signs behind it, in the words of the document."""
-
-    def __init__(self, text):
-        self.past, self.ahead = [], list(text)
-        self.mark, self.kept = None, []
-
-    def drop_mark(self):
-        if self.mark is not None and len(self.past) > self.mark + 2:
-            self.mark = None
-
-    def step(self):
-        self.past.append(self.ahead.pop(0))
-        self.drop_mark()
-
-    def insert(self, sign):
-        self.past.append(sign)
-        self.drop_mark()
-
-    def press(self, key):
-        kind, sign = key[0], key[1:]
-        if kind in ">x":
-            if not self.ahead:
-                return False
-            if kind == ">":
-                self.step()
-            else:
-                self.ahead.pop(0)
-        elif kind == "'":
-            self.insert(sign)
-        elif kind == "=":
-            return self.ahead[:1] == [sign]
-        elif kind == "/":
-            while self.ahead and self.ahead[0] != sign:
-                self.step()
-            return bool(self.ahead)
-        elif kind == "w":
-            while self.ahead and self.ahead[0] != "-":
-                self.step()
-        elif kind == "^":
-            return not self.past or self.past[-1] == "-"
-        elif kind == "m":
-            self.mark = len(self.past)
-        elif kind == "p":
-            for each in self.kept:
-                self.insert(each)
-            return bool(self.kept)
-        elif self.mark is None:
-            return False
-        else:
-            self.kept = self.past[self.mark:]
-            if kind == "c":
-                del self.past[self.mark:]
-        return True
-
-    def state(self):
-        held = None if self.mark is None else "".join(self.past[self.mark:])
-        return ["".join(self.past + self.ahead), len(self.past), self.mark, "".join(self.kept), held]
 
 
 def state(page):
