@@ -1,6 +1,7 @@
 """Round trips: an old book writes a text, and a new book reads what was written (points 44 to 47)."""
 
 from talepost.books import KINDS, Book, is_form, overlap
+from talepost.choices import by_length
 from talepost.errors import BadForm, TakenShort, TooMany, UnknownPlace
 from talepost.leads import parting_text
 from talepost.letters import check_alphabets
@@ -85,13 +86,3 @@ def least_strike(old, new, stock):
                 return struck
             damaged.append(found)
     return names
-
-
-def by_length(names):
-    """All lists of some of the names, which ascend: shorter lists first, then in the order of lists."""
-    found = []
-    layer = [[]]
-    while layer:
-        found.extend(layer)
-        layer = [chosen + [name] for chosen in layer for name in names if chosen == [] or name > chosen[-1]]
-    return found

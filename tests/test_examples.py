@@ -7,19 +7,27 @@ import unittest
 from talepost.booknotes import parse_book
 from talepost.books import Book
 from talepost.casts import Cast
-from talepost.errors import BadLine
+from talepost.errors import BadLine, Melted
 from talepost.growth import growth
 from talepost.leads import lead_rows, parting_text
+from talepost.ledgers import Ledger
 from talepost.letters import Alphabet
-from talepost.lots import Lot
+from talepost.lots import MOST_TABLES, Lot
 from talepost.machines import Machine
 from talepost.menus import Menu
-from talepost.pages import Page
+from talepost.pages import HOLD, Page
 from talepost.people import Doubter, Knower, KnowingDoubter, Person
+from talepost.plays import Result, carry, play
+from talepost.posts import MOST_STATIONS, MOST_WORLDS, Post
+from talepost.printing import world_lines
+from talepost.recordings import Recording
+from talepost.routes import ROUTE_LIMIT, Route
 from talepost.rules import Rule
 from talepost.stages import Add, Drop, LastDrop, Once, Write
 from talepost.standings import reader
+from talepost.stations import Fixed, Hearer, Hidden, Plain
 from talepost.stocks import Stock
+from talepost.stretches import pattern_melted
 from talepost.sure import doubt
 from talepost.tables import Table
 from talepost.trips import first_damage
@@ -53,7 +61,23 @@ LISTED = {
                "Once": "alphabet, name", "Add": "alphabet, sign", "read_stage": "alphabet, written"},
     "rules": {"Rule": "alphabet, *stages"},
     "menus": {"Menu": "rules"},
-    "pages": {"Page": "alphabet, text=''"}}
+    "pages": {"Page": "alphabet, text=''"},
+    "recordings": {"Recording": "alphabet, notation"},
+    "plays": {"play": "recording, text", "trace": "recording, text, *, most=60", "carry": "recording, text",
+              "ending": "recording, outcome"},
+    "stations": {"Station": "alphabet", "Plain": "alphabet", "Fixed": "machine", "Hearer": "person", "Hidden": "machines"},
+    "posts": {"Post": "alphabet, **stations"},
+    "rowlinks": {"row_link": "post, heard, asked, stock", "row_doubt": "post, heard, asked, stock",
+                 "senders": "post, row, out, stock"},
+    "mending": {"fewest_plain": "post, row, stock", "swappable": "post, stock", "undoing": "post, row, stock"},
+    "stretches": {"matches": "post, pattern, row", "rows_of": "post, pattern, length", "chief_rows": "post, pattern",
+                  "least_row": "post, pattern, wish", "pattern_machine": "post, pattern",
+                  "pattern_melted": "post, pattern, stock", "pattern_same": "post, pattern, other, stock",
+                  "safe_texts": "post, pattern, texts"},
+    "ledgers": {"Ledger": "post, *, limit=0"},
+    "plans": {name: "ledger, row, *texts" for name in ["plan", "depth", "stall"]},
+    "routes": {"Route": "ledger, stock, *, limit=8", "attempt": "route, deeds"},
+    "printing": {"world_lines": "ledger", "post_lines": "post"}}
 METHODS = {
     Alphabet: {"signs_of": "name", "is_text": "text", "check": "text"},
     Stock: {"every": "alphabet", "none": "alphabet", "listed": "alphabet, texts", "shaped": "alphabet, shape",
@@ -71,7 +95,24 @@ METHODS = {
     Rule: {"read": "alphabet, written", "results": "text", "machine": "", "__call__": "text"},
     Menu: {"made": "alphabet, *stages, depth=1", "written": "", "machines": "", "classes_on": "stock",
            "parted": "one, two, stock"},
-    Page: {"press": "key"}}
+    Page: {"press": "key"},
+    Recording: {"all_keys": "", "machine": ""},
+    **{kind: {"machine": "", "outs": "text"} for kind in [Plain, Fixed, Hearer, Hidden]},
+    Post: {"put": "letter, station", "leave": "letter", "members": "", "cast": "", "plain": "letters", "worlds": "",
+           "settled": "world", "through": "row", "outs": "row, text"},
+    Ledger: {"see": "row, text, out", "withdraw": "number", "change_limit": "limit", "entries": "", "left": "",
+             "misses": "world", "twin": "", "machines_left": "letter", "through": "row", "answers": "row, text",
+             "silent": "row, text", "sure": "row, text", "unsure": "row, stock", "verdict": "row, one, two"},
+    Route: {"machine": "", "ledger": "", "outs": "text", "told_back": "out", "add": "letter", "insert": "at, letter",
+            "take": "at", "swap": "at", "see": "row, text, out", "withdraw": "number", "change_limit": "limit", "undo": "",
+            "redo": "", "twin": ""}}
+OPERATORS = {
+    Stock: "eq contains and or sub bool", Machine: "len mul or invert", Alphabet: "eq", Lot: "len contains",
+    Table: "getitem contains len bool str eq mul or and invert", Cast: "getitem setitem contains len",
+    Book: "len contains getitem add sub eq", Rule: "call eq add len str", Menu: "len", Recording: "eq add len str",
+    Post: "getitem setitem contains len", Ledger: "len", Route: "len iadd"}
+PROPERTIES = {Table: "total exact", Person: "table", Knower: "known", Page: "held", Ledger: "limit many",
+              Route: "row past future limit"}
 
 
 def written(signature):
@@ -92,6 +133,46 @@ class InterfaceTest(unittest.TestCase):
                 self.assertIn(name, vars(kind))
                 bound = written(inspect.signature(getattr(kind, name)))
                 self.assertEqual(bound.removeprefix("self").removeprefix(", "), parameters, name)
+
+    def test_operators_and_properties(self):
+        for kind, names in OPERATORS.items():
+            for name in names.split():
+                self.assertIn(f"__{name}__", vars(kind), kind)
+        for kind, names in PROPERTIES.items():
+            for name in names.split():
+                self.assertIsInstance(vars(kind)[name], property)
+                self.assertEqual(vars(kind)[name].fset is not None, name == "limit")
+
+    def test_generators(self):
+        for module, name in [("scanning", "write_steps"), ("scanning", "read_steps"), ("plays", "trace"), ("stretches", "rows_of")]:
+            held = vars(importlib.import_module(f"talepost.{module}"))
+            self.assertTrue(inspect.isgeneratorfunction(held[name]), name)
+        for method in [Stock.texts, Lot.walk]:
+            self.assertTrue(inspect.isgeneratorfunction(method))
+
+    def test_constants_and_class_values(self):
+        self.assertEqual([Alphabet.JOINT, Alphabet.MOST, MOST_TABLES, Book.MOST, Rule.MOST, Menu.MOST, HOLD], ["-", 4, 150, 8, 3, 60, 2])
+        self.assertEqual([Recording.MOST_KEYS, Recording.MOST_DEPTH, MOST_STATIONS, MOST_WORLDS, ROUTE_LIMIT], [24, 4, 8, 64, 8])
+        self.assertEqual([Plain.KIND, Fixed.KIND, Hearer.KIND, Hidden.KIND], ["plain", "fixed", "person", "hidden"])
+        self.assertEqual(Result.__module__, "talepost.plays")
+
+    def test_the_attribute_alphabet(self):
+        alphabet = Alphabet("ab", "a")
+        person = Person(alphabet, "-ab", ["-", "a", "b"])
+        machine = Machine.identity(alphabet)
+        post = Post(alphabet, H=Hidden([machine]))
+        things = [Stock.every(alphabet), machine, person.table, person, Knower(alphabet, "-ab", ["-", "a", "b"], "a"),
+                  Cast(alphabet, A=person), Lot(Cast(alphabet)), Book(alphabet), Drop(alphabet, "all"), Add(alphabet, "a"),
+                  Rule(alphabet), Menu([Rule(alphabet)]), Page(alphabet), Recording(alphabet, "w"), post["H"], Plain(alphabet),
+                  Fixed(machine), Hearer(person), post, Ledger(post), Route(Ledger(post), Stock.every(alphabet)),
+                  play(Recording(alphabet, "w"), "a")]
+        for thing in things:
+            self.assertEqual(thing.alphabet, alphabet)
+
+    def test_objects_with_brackets_cannot_be_iterated_over(self):
+        alphabet = Alphabet("ab")
+        for thing in [Table.full(alphabet), Cast(alphabet), Book(alphabet), Post(alphabet)]:
+            self.assertRaises(TypeError, iter, thing)
 
 
 class ExamplesTest(unittest.TestCase):
@@ -126,6 +207,38 @@ class ExamplesTest(unittest.TestCase):
     def test_rules(self):
         rule = Rule.read(Alphabet("nort", "o"), "drop vowels after 1 each; drop joints")
         self.assertEqual(rule.results("nor-ort"), ["nor-ort", "nr-ort", "nrort"])
+
+    def test_plays(self):
+        alphabet = Alphabet("ab")
+        self.assertEqual([carry(Recording(alphabet, "(/ax)"), "baab"), carry(Recording(alphabet, "x=b"), "aa"),
+                          play(Recording(alphabet, "(=a)"), "ab").outcome], ["bb", "aa", "endless"])
+
+    def test_posts(self):
+        alphabet = Alphabet("ab")
+        person = Person(alphabet, "-ab", ["-", "ab", "b"])
+        post = Post(alphabet, A=Hearer(person), B=Fixed(Rule.read(alphabet, "once all").machine()))
+        self.assertEqual(post.outs("AB", "aa"), ["a", "b", "ab", "ba"])
+
+    def test_stretches(self):
+        alphabet = Alphabet("ab")
+        post = Post(alphabet, A=Hearer(Person(alphabet, "-ab", ["-", "a", "ab"])))
+        self.assertEqual(pattern_melted(post, "*", Stock.listed(alphabet, ["a", "b"])), ("A", "a", "a", "b"))
+
+    def test_ledgers(self):
+        alphabet = Alphabet("ab", "a")
+        menu = Menu.made(alphabet, "drop vowels", "once all")
+        ledger = Ledger(Post(alphabet, A=Hidden(menu.machines())))
+        self.assertEqual(ledger.see("A", "abba", "bb"), 0)
+        self.assertEqual([ledger.left(), world_lines(ledger)],
+                         [[(1,)], ["0          out    1", "1          left   0", "2          out    1"]])
+
+    def test_routes(self):
+        alphabet = Alphabet("ab", "a")
+        post = Post(alphabet, A=Fixed(Rule.read(alphabet, "drop vowels").machine()))
+        route = Route(Ledger(post), Stock.listed(alphabet, ["b", "ab"]))
+        with self.assertRaises(Melted) as caught:
+            route.add("A")
+        self.assertEqual([caught.exception.out, caught.exception.one, caught.exception.other], ["b", "b", "ab"])
 
 
 if __name__ == "__main__":

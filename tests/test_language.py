@@ -332,6 +332,21 @@ class LanguageTest(unittest.TestCase):
                 self.assertEqual(names.count(name), 1, name)
         self.each(check)
 
+    def test_l18_names_of_methods_and_attributes(self):
+        # The document has an attribute `limit` of an error, and properties of this name.
+        plain = {"limit"}
+        for source in SOURCES:
+            for node in source.functions:
+                marked = bool(node.decorator_list) or node.name in GENERATORS
+                if marked and isinstance(source.above[node], ast.ClassDef):
+                    self.assertNotIn(node.name, ATTRIBUTES - plain, self.at(source, node, "L18"))
+
+    def test_l5_no_adding_in_place(self):
+        def check(source):
+            for node in source.nodes:
+                self.assertNotIsInstance(node, ast.AugAssign, self.at(source, node, "L5"))
+        self.each(check)
+
     def test_l26_own_methods(self):
         held = {name for kind in (str, int, list, dict, set, bytes) for name in dir(kind)}
         # The document lists a method `union` of a lot.
