@@ -42,7 +42,7 @@ def check_notation(alphabet, notation, most_open):
         if not fits:
             raise BadRecording(place)
         opened = sign in OPENING
-        waits = not waits and sign in SIGN_KEYS
+        waits = sign in SIGN_KEYS
     if waits or groups != "":
         raise BadRecording(len(notation))
 

@@ -26,7 +26,7 @@ def opened(pattern, places):
     """The places, ascending, from which the pattern can go on: those behind a star count as well as the star."""
     reached = []
     for at in range(len(pattern) + 1):
-        if at in places or (at > 0 and at - 1 in reached and pattern[at - 1] == "*"):
+        if at in places or (at - 1 in reached and pattern[at - 1] == "*"):
             reached.append(at)
     return reached
 

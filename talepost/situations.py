@@ -86,7 +86,7 @@ def played_on(steps, situation, ahead):
         written = written + signs
         if works is not None:
             number = then if works else otherwise
-    if number >= 0 and gone:
+    if number >= 0:
         return written, (number, hand)
     if number == DONE:
         written = written + (hand[1] or "") + ("" if gone else ahead)

@@ -128,6 +128,11 @@ class PlayTest(unittest.TestCase):
         self.plays("(m>kp)", "ab", "done", "aabb", 4, "b", 10)
         self.plays("('b>)", "aa", "done", "babab", 5, "", 6)
 
+    def test_situations_that_differ_only_in_the_opening(self):
+        # A joint is pasted; at this opening nothing is kept, so the paste fails.
+        self.plays("m>k>>([^mk|]p)", "-bb", "done", "-bb-", 4, "", 11)
+        self.assertIn("-bb", ending(recording("m>k>>([^mk|]p)"), "done"))
+
     def test_many_presses(self):
         result = play(recording("(m>kp" + "'a" * 10 + ")"), "ab-" * 20)
         self.assertEqual([result.outcome, result.presses, len(result.text)], ["done", 14 * 60 + 2, 12 * 60])

@@ -4,10 +4,12 @@ import itertools
 import random
 import re
 import unittest
+import unittest.mock
 
 from talepost.errors import BadPattern, BadText, Mixed, TooMany, Uncertain, UnknownLetter
 from talepost.lots import Lot
 from talepost.machines import Machine
+from talepost.patterns import after_letter
 from talepost.people import Person
 from talepost.posts import Post
 from talepost.rules import Rule
@@ -154,6 +156,13 @@ class RowsOfTest(unittest.TestCase):
         self.assertEqual(list(rows_of(people, "ABCDEF", 12)), [])
         self.assertEqual(list(rows_of(people, "ZZZZZZ", 6)), ["ZZZZZZ"])
         self.assertEqual(len(list(rows_of(people, "*ZZZZZ", 6))), 7)
+        with unittest.mock.patch("talepost.stretches.after_letter", wraps=after_letter) as spy:
+            rows = rows_of(people, "*ZZZZZ", 12)
+            self.assertEqual([next(rows), next(rows)], ["AAAAAAAZZZZZ", "AAAAAABZZZZZ"])
+            self.assertLess(spy.call_count, 300)
+            spy.reset_mock()
+            self.assertEqual(list(rows_of(POST, "F?FHPF", 6)), ["FAFHPF", "FBFHPF"])
+            self.assertLess(spy.call_count, 100)
 
     def test_errors_arise_when_it_is_iterated_over(self):
         rows = rows_of(POST, "A!", 1)
