@@ -121,6 +121,10 @@ class Ledger:
         check_row(self._post, row)
         return union_along(self._post, self.left(), row)
 
+    def through_on(self, row, stock):
+        """The machine of a row of known letters, in the worlds that are left, for the texts of the stock alone."""
+        return union_along(self._post, self.left(), row, stock)
+
     def outs(self, row, text):
         """The texts that the row says for the text in at least one world that is left."""
         self.check_question(row, [text])
@@ -169,10 +173,10 @@ class Ledger:
         check_alphabets([self, stock])
         check_row(self._post, row)
         kept = keeper(stock)
-        spoken = kept * self.through(row)
+        spoken = self.through_on(row, stock)
         found = parting_text(spoken, spoken)
         for setting, _ in groups_of(self._post, self.left(), row):
-            machine = kept * product_along(self._post, setting, row)
+            machine = product_along(self._post, setting, row, stock)
             found = sooner_alone(found, machine, kept)
         return found
 

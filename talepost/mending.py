@@ -4,7 +4,6 @@ from talepost.casts import check_row
 from talepost.choices import by_length
 from talepost.errors import TooMany
 from talepost.letters import check_alphabets
-from talepost.machines import keeper
 from talepost.sure import differ_on, melted, returned
 
 MOST_LETTERS = 5
@@ -21,7 +20,7 @@ def fewest_plain(post, row, stock):
         # A plain station at a place says the same as no station there.
         rest = "".join([letter for at, letter in enumerate(row) if at not in places])
         if rest not in tried:
-            if melted(post.through(rest), stock) is None:
+            if melted(post.through_on(rest, stock), stock) is None:
                 return places
             tried[rest] = True
     return list(range(len(row)))
@@ -31,9 +30,8 @@ def swappable(post, stock):
     """The pairs of letters whose two rows are certain and the same on the stock."""
     check_alphabets([post, stock])
     letters = post.members()
-    kept = keeper(stock)
     return [(one, other) for at, one in enumerate(letters) for other in letters[at + 1:]
-            if differ_on(kept * post.through(one + other), kept * post.through(other + one)) is None]
+            if differ_on(post.through_on(one + other, stock), post.through_on(other + one, stock)) is None]
 
 
 def undoing(post, row, stock):
@@ -42,6 +40,6 @@ def undoing(post, row, stock):
     check_row(post, row)
     letters = post.members()
     for behind in ["", *letters, *[one + other for one in letters for other in letters]]:
-        if returned(post.through(row + behind), stock) is None:
+        if returned(post.through_on(row + behind, stock), stock) is None:
             return behind
     return None

@@ -97,6 +97,10 @@ class Post:
         check_row(self._stations, row)
         return union_along(self, self.worlds(), row)
 
+    def through_on(self, row, stock):
+        """The machine of a row of known letters, for the texts of the stock alone."""
+        return union_along(self, self.worlds(), row, stock)
+
     def outs(self, row, text):
         """The list of the texts that the row says for the text in at least one world."""
         check_row(self._stations, row)

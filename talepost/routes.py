@@ -163,7 +163,7 @@ class Route:
 
     def check_apart(self, row, ledger):
         """Raise Melted if texts of the stock melt in the row."""
-        found = melted(ledger.through(row), self._stock)
+        found = melted(ledger.through_on(row, self._stock), self._stock)
         if found is not None:
             out, one, other = found
             raise Melted(out, one, other)

@@ -27,11 +27,11 @@ def row_doubt(post, heard, asked, stock):
 
 
 def pairs_of_rows(post, heard, asked, stock):
-    """Pairs of machines: together they say what the two rows say of a text in one and the same world."""
+    """Pairs of machines: together they say what the two rows say of a text of the stock in one and the same world."""
     check_alphabets([post, stock])
     check_row(post, heard)
     check_row(post, asked)
-    return [(product_along(post, setting, heard), product_along(post, setting, asked))
+    return [(product_along(post, setting, heard, stock), product_along(post, setting, asked, stock))
             for setting in settings_of(post, post.worlds(), heard + asked)]
 
 

@@ -76,18 +76,20 @@ def machine_in(station, indexes):
     return any_of(station.alphabet, [station.choices[index] for index in indexes])
 
 
-def product_along(post, setting, row):
-    """The product of the machines of the row."""
-    machines = machines_along(post, setting, row)
+def product_along(post, setting, row, stock=None):
+    """The product of the machines of the row; if there is a stock, it says something for the texts of it alone."""
+    # If the stock comes first, all products stay as small as its texts allow.
+    begun = [] if stock is None else [keeper(stock)]
+    machines = begun + machines_along(post, setting, row)
     machine = machines[0] if machines else Machine.identity(post.alphabet)
     for other in machines[1:]:
         machine = machine * other
     return machine
 
 
-def union_along(post, worlds, row):
-    """A machine that says what the row says in at least one of the worlds."""
-    products = [product_along(post, setting, row) for setting in settings_of(post, worlds, row)]
+def union_along(post, worlds, row, stock=None):
+    """A machine that says what the row says in at least one of the worlds; a stock is meant as in `product_along`."""
+    products = [product_along(post, setting, row, stock) for setting in settings_of(post, worlds, row)]
     return products[0] if len(products) == 1 else any_of(post.alphabet, products)
 
 

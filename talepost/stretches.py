@@ -5,7 +5,7 @@ from talepost.choices import by_length
 from talepost.errors import TooMany
 from talepost.letters import check_alphabets, shortlex
 from talepost.lots import Lot
-from talepost.machines import any_of, keeper
+from talepost.machines import any_of
 from talepost.patterns import after_letter, check_pattern, lengths_left, opened, people_of
 from talepost.stocks import Stock
 from talepost.sure import check_certain, differ_on, melted
@@ -76,7 +76,7 @@ def pattern_melted(post, pattern, stock):
     """The least row that matches in which texts of the stock melt, and the triple of `melted` for it; or None."""
     check_alphabets([post, stock])
     for row in chief_rows(post, pattern):
-        found = melted(post.through(row), stock)
+        found = melted(post.through_on(row, stock), stock)
         if found is not None:
             return (row, *found)
     return None
@@ -87,11 +87,10 @@ def pattern_same(post, pattern, other, stock):
     check_alphabets([post, stock])
     rows = chief_rows(post, pattern)
     check_row(post, other)
-    kept = keeper(stock)
-    expected = kept * post.through(other)
+    expected = post.through_on(other, stock)
     check_certain(expected)
     for row in rows:
-        machine = kept * post.through(row)
+        machine = post.through_on(row, stock)
         check_certain(machine)
         text = differ_on(machine, expected)
         if text is not None:
@@ -125,7 +124,7 @@ def clashing(post, rows, texts):
     clashes = []
     stock = Stock.listed(post.alphabet, texts)
     for row in rows:
-        machine = post.through(row)
+        machine = post.through_on(row, stock)
         if melted(machine, stock) is not None:
             images = [machine.image(Stock.listed(post.alphabet, [text])) for text in texts]
             clashes.extend([(one, other) for one, other in pairs_in(list(range(len(texts))))
